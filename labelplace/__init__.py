@@ -1,0 +1,1 @@
+"""Labelplace: names beside points on a sheet of cells."""
