@@ -3,12 +3,7 @@ import random
 import unittest
 
 from labelplace.boxes import bits, cells_of, lies_in, meet
-
-
-def told_cells(box):
-    """The cells of [4], written another way than the program writes them."""
-    x, y, wide, high = box
-    return {(x + step % wide, y + step // wide) for step in range(wide * high)}
+from told import told_cells
 
 
 def told_bits(box, wide):

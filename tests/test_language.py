@@ -141,6 +141,54 @@ def expression_faults(node):
             yield "L20", node.lineno
 
 
+def is_call_of(node, names):
+    return isinstance(node, ast.Call) and isinstance(node.func, ast.Name) and node.func.id in names
+
+
+def is_set(node):
+    if isinstance(node, ast.BinOp) and isinstance(node.op, (ast.Sub, ast.BitAnd, ast.BitOr, ast.BitXor)):
+        return is_set(node.left) and is_set(node.right)
+    return is_call_of(node, ("set", "frozenset"))
+
+
+def set_faults(tree):
+    fitting = set()
+    for node in ast.walk(tree):
+        if isinstance(node, ast.Compare) and isinstance(node.ops[0], (ast.In, ast.NotIn)):
+            fitting.add(node.comparators[0])
+        if isinstance(node, ast.Compare) and isinstance(node.ops[0], (ast.Eq, ast.NotEq)):
+            if is_set(node.left) and is_set(node.comparators[0]):
+                fitting |= {node.left, node.comparators[0]}
+        if is_call_of(node, ("sorted", "len")) and not node.keywords:
+            fitting.add(node.args[0])
+        if node in fitting and isinstance(node, ast.BinOp) and is_set(node):
+            fitting |= {node.left, node.right}
+    for node in ast.walk(tree):
+        if is_set(node) and node not in fitting:
+            yield "L24", node.lineno
+
+
+def is_walk(node):
+    method = node.func.attr if isinstance(node, ast.Call) and isinstance(node.func, ast.Attribute) else None
+    return is_call_of(node, ("zip", "enumerate", "reversed", "range")) or method in ("items", "keys", "values")
+
+
+def walk_faults(tree):
+    fitting = set()
+    for node in ast.walk(tree):
+        if isinstance(node, (ast.For, ast.comprehension)):
+            fitting.add(node.iter)
+        if is_call_of(node, ("list", "tuple", "dict", "sorted", "sum", "any", "all", "enumerate", "zip")):
+            fitting |= set(node.args[:1])
+        if is_call_of(node, ("min", "max")) and len(node.args) == 1:
+            fitting.add(node.args[0])
+        if isinstance(node, ast.Call) and isinstance(node.func, ast.Attribute) and node.func.attr == "join":
+            fitting |= set(node.args)
+    for node in ast.walk(tree):
+        if is_walk(node) and node not in fitting:
+            yield "L23", node.lineno
+
+
 def bound_names(node):
     if isinstance(node, ast.Name) and isinstance(node.ctx, ast.Store):
         return [node.id]
@@ -210,7 +258,7 @@ def own_methods(tree):
 
 def faults_of(text):
     tree = ast.parse(text)
-    faults = list(text_faults(text)) + list(top_faults(tree))
+    faults = list(text_faults(text)) + list(top_faults(tree)) + list(set_faults(tree)) + list(walk_faults(tree))
     for node in ast.walk(tree):
         faults.extend(node_faults(node, tree, own_methods(tree)))
     return faults
@@ -266,6 +314,7 @@ class Language(unittest.TestCase):
             "L10": "def f():\n" + "    pass\n" * 40, "L12": "def f(_x):\n    return 1", "L15": "x = 1\nx = 2",
             "L14": "# \u00fc", "L17": "# a type",
             "L19": "def f(x):\n    try:\n        g(x)\n    except Exception:\n        pass",
+            "L23": "def f(x):\n    y = x.items()\n    return list(y)", "L24": "def f(x):\n    return list(set(x))",
             "L20": "def f(x, y):\n    return x is y", "L21": "def f(x) -> int:\n    return x",
             "L25": "def f(x):\n    return x.casefold()", "L26": "def f(x):\n    x.pop = 1",
             "L27": "def f(x):\n    return 2 ** x",

@@ -4,8 +4,8 @@ import unittest
 
 from labelplace.errors import LabelError, NoPlan
 from labelplace.plans import read_plan, show_plan
+from told import WAYS, some_plan
 
-WAYS = ["right", "left", "above", "below", "up", "down"]
 SIXTY = "9" * 60
 
 TEXT = """sheet 12 8
@@ -27,29 +27,6 @@ TWENTY_KEPT = "\n".join(["sheet 20 20"] + ["keep 0 0 20 20"] * 20)
 MANY_POINTS = "\n".join(
     ["sheet 20 20"] + [f"point {name} {k % 20} {k // 20} 1 right:1" for k, name in enumerate(string.ascii_lowercase)]
 )
-
-
-def some_plan(chance):
-    wide, high = chance.randint(1, 20), chance.randint(1, 20)
-    kept = []
-    for _ in range(chance.randint(0, 20)):
-        x, y = chance.randrange(wide), chance.randrange(high)
-        kept.append((x, y, chance.randint(1, wide - x), chance.randint(1, high - y)))
-    cells = [(x, y) for x in range(wide) for y in range(high)]
-    cells = chance.sample(cells, chance.randint(0, min(26, len(cells))))
-    names = set()
-    while len(names) < len(cells):
-        names.add("".join(chance.choices(string.ascii_lowercase, k=chance.randint(1, 8))))
-    points = []
-    for name, (x, y) in zip(sorted(names), cells):
-        ways = chance.sample(WAYS, chance.randint(1, 6))
-        places = tuple((way, some_number(chance)) for way in ways)
-        points.append((name, x, y, some_number(chance), places))
-    return (wide, high, tuple(kept), tuple(points))
-
-
-def some_number(chance):
-    return chance.randrange(10 ** chance.randint(0, 60))
 
 
 def kinds_of(value):

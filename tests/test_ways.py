@@ -2,15 +2,8 @@ import unittest
 
 from labelplace.boxes import cells_of
 from labelplace.ways import box_at
+from told import TOLD
 
-TOLD = {
-    "right": lambda x, y, n: (x + 1, y, n, 1),
-    "left": lambda x, y, n: (x - n, y, n, 1),
-    "above": lambda x, y, n: (x - (n - 1) // 2, y - 1, n, 1),
-    "below": lambda x, y, n: (x - (n - 1) // 2, y + 1, n, 1),
-    "up": lambda x, y, n: (x, y - n, 1, n),
-    "down": lambda x, y, n: (x, y + 1, 1, n),
-}
 POINTS = [(0, 0), (19, 0), (0, 19), (19, 19), (3, 12), (10, 7)]
 
 
