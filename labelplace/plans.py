@@ -1,12 +1,27 @@
 """Plans (wide, high, kept, points), read from their text and shown as it."""
 
 from labelplace.boxes import lies_in
-from labelplace.errors import NoPlan
+from labelplace.errors import NoName, NoPlan
 from labelplace.words import numbers_in, point_in
 
 MOST_SIDE = 20
 MOST_KEPT = 20
 MOST_POINTS = 26
+
+
+def names_of(plan):
+    return [point[0] for point in plan[3]]
+
+
+def refuse_unknown(plan, name):
+    if name not in names_of(plan):
+        raise NoName(name)
+
+
+# Its own cell is free for a point that is moved, so the point of this name counts for nothing here.
+def cell_is_free(plan, name, x, y):
+    taken = [point[1:3] for point in plan[3] if point[0] != name]
+    return lies_in((x, y, 1, 1), plan[0], plan[1]) and (x, y) not in taken
 
 
 def sheet_plan(words):
@@ -22,18 +37,15 @@ def with_kept(plan, words):
     box = numbers_in(words)
     if box is None or len(box) != 4 or min(box[2:]) < 1 or not lies_in(box, plan[0], plan[1]):
         return None
-    if len(plan[3]) > 0 or len(plan[2]) >= MOST_KEPT:
+    if len(plan[2]) >= MOST_KEPT:
         return None
     return (plan[0], plan[1], plan[2] + (box,), plan[3])
 
 
 def lets_by(plan, point):
-    if point[1] >= plan[0] or point[2] >= plan[1]:
+    if point[0] in names_of(plan) or len(plan[3]) >= MOST_POINTS:
         return False
-    for other in plan[3]:
-        if other[0] == point[0] or other[1:3] == point[1:3]:
-            return False
-    return len(plan[3]) < MOST_POINTS
+    return cell_is_free(plan, point[0], point[1], point[2])
 
 
 def with_point(plan, words):
@@ -48,7 +60,7 @@ def with_point(plan, words):
 def with_line(plan, words):
     if plan is None:
         return sheet_plan(words)
-    if words[0] == "keep":
+    if words[0] == "keep" and len(plan[3]) == 0:
         return with_kept(plan, words[1:])
     if words[0] == "point":
         return with_point(plan, words[1:])

@@ -5,29 +5,9 @@ import unittest
 from labelplace.papers import Cases, End, Paper
 from labelplace.parts import parts
 from labelplace.plans import read_plan
-from told import names_of, open_cells, point_named, roomy_plan, settings_of, some_setting
+from told import cost, left_open, names_of, roomy_plan, settings_of, some_setting, told_bounds, told_sum
 
 SIXTY = 10 ** 60 - 1
-
-
-def left_open(plan, name, ahead):
-    """The open places of a name whose boxes meet no box set ahead, cell by cell."""
-    cells = open_cells(plan)
-    taken = set().union(*[cells[other][place] for other, place in ahead if place is not None])
-    return [place for place in cells[name] if not cells[name][place] & taken]
-
-
-def cost(plan, name, place):
-    point = point_named(plan, name)
-    return point[3] if place is None else point[4][place][1]
-
-
-def told_sum(plan, names, ahead):
-    """What [15] tells an End to come to."""
-    total = sum(cost(plan, name, place) for name, place in ahead)
-    for name in set(names) - {name for name, _ in ahead}:
-        total += min(cost(plan, name, place) for place in [None] + left_open(plan, name, ahead))
-    return total
 
 
 def some_paper(chance, plan, names, ahead, ends=0.0):
@@ -82,6 +62,7 @@ class Held(unittest.TestCase):
     def hold(self, paper, plan, names, loss, ahead, told):
         handed = (list(names), list(ahead))
         self.assertIs(paper.bounds(plan, names, loss, ahead), told, (plan, names, loss, ahead))
+        self.assertIs(told_bounds(plan, names, loss, ahead, paper), told)
         self.assertEqual((names, ahead), handed)
 
     def hold_least(self, paper, plan, names, ahead, least):

@@ -4,34 +4,7 @@ import unittest
 
 from labelplace.parts import neighbours, parts
 from labelplace.plans import read_plan
-from told import names_of, open_cells, roomy_plan, some_plan
-
-
-def told_neighbours(plan):
-    """For each name its neighbours by [13]: some open place of the one meets some open place of the other."""
-    cells = open_cells(plan)
-    told = {name: [] for name in cells}
-    for one, other in itertools.permutations(cells, 2):
-        if any(a & b for a, b in itertools.product(cells[one].values(), cells[other].values())):
-            told[one].append(other)
-    return told
-
-
-def told_parts(plan):
-    """The parts by [13]: each name alone at first, then those that are neighbours thrown together."""
-    near = told_neighbours(plan)
-    part_of = {name: {name} for name in near}
-    for one in near:
-        for other in near[one]:
-            joined = part_of[one] | part_of[other]
-            for name in joined:
-                part_of[name] = joined
-    told = []
-    for name in near:
-        part = [other for other in near if other in part_of[name]]
-        if part not in told:
-            told.append(part)
-    return told
+from told import names_of, open_cells, roomy_plan, some_plan, told_neighbours, told_parts
 
 
 def plans(seed, count):

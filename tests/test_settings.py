@@ -6,7 +6,7 @@ import unittest
 from labelplace.plans import read_plan
 from labelplace.settings import barred_by, box_of, is_setting, loss_of, open_places
 from told import (
-    WAYS, names_of, place_cells, point_named, roomy_plan, settings_of, some_plan, some_setting, told_box, told_cells,
+    WAYS, names_of, place_cells, point_named, roomy_plan, settings_of, some_plan, some_setting, told_bars, told_box,
     told_loss, told_open, told_setting,
 )
 
@@ -212,22 +212,6 @@ class LossOf(unittest.TestCase):
             plan = roomy_plan(chance, figures=60)
             setting = some_setting(chance, plan)
             self.hold(plan, setting, told_loss(plan, setting))
-
-
-def told_bars(plan, setting, name):
-    """What [10] tells, cell by cell."""
-    sheet = {(x, y) for x in range(plan[0]) for y in range(plan[1])}
-    bars = [(("point", point[0]), {(point[1], point[2])}) for point in plan[3]]
-    bars += [(("keep", number), told_cells(box)) for number, box in enumerate(plan[2])]
-    for point, place in zip(plan[3], setting):
-        if point[0] != name and place is not None:
-            bars.append((("name", point[0]), place_cells(point, place)))
-    told = []
-    for place in range(len(point_named(plan, name)[4])):
-        cells = place_cells(point_named(plan, name), place)
-        met = [bar for bar, barred in bars if cells & barred]
-        told.append((met + [None])[0] if cells <= sheet else ("sheet",))
-    return told
 
 
 class BarredBy(unittest.TestCase):
