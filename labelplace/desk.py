@@ -10,6 +10,7 @@ from labelplace.twos import all_set
 from labelplace.words import is_name, numbers_in, point_in
 
 
+# What reads a row's words tells None where they are none of the kind.
 def known(value):
     if value is None:
         raise NoDeed()

@@ -42,15 +42,14 @@ def cells_with(text, sign):
 
 # Both lists of cells go line by line from above, so they can be held against one another as they are.
 def place_with(point, cells):
-    if len(cells) == 0:
-        return None
     for place, box in enumerate(boxes_of(point)):
         if cells_of(box) == cells:
             return place
-    raise NoDrawing()
+    return None
 
 
-# The small letters alone tell the setting; drawn again it shows whether all other signs were right too.
+# The small letters alone tell the setting; drawn again it shows whether all other signs were right too,
+# and whether there were letters that are no place's box.
 def read_back(plan, text):
     if not isinstance(text, str):
         raise NoDrawing()

@@ -2,6 +2,7 @@
 
 from labelplace.papers import Cases, End, choices_of, with_choice
 from labelplace.parts import parts
+from labelplace.plans import names_of
 from labelplace.settings import point_of
 
 
@@ -18,12 +19,6 @@ def choices_by_loss(plan, names):
 
 def cheapest_sum(free):
     return sum([choices[0][0] for choices in free.values()])
-
-
-def first_free(choices, taken):
-    for choice in choices:
-        if choice[1] & taken == 0:
-            return choice
 
 
 def narrowed(free, name, taken):
@@ -43,23 +38,10 @@ def crossed_names(free):
     return crossed
 
 
-# By how much the cheapest sum rises where the name has this choice.
-def rise(free, name, choice):
-    total = choice[0] - free[name][0][0]
-    for other in free:
-        if other != name:
-            total += first_free(free[other], choice[1])[0] - free[other][0][0]
-    return total
-
-
-# The fewer of a name's cases have to be gone through further, the smaller the paper; then the higher the least rise.
-def split_rank(free, name, needed):
-    rises = [rise(free, name, choice) for choice in free[name]]
-    return (len([one for one in rises if one < needed]), -min(rises))
-
-
-def name_to_split(free, crossed, needed):
-    return min(crossed, key=lambda name: split_rank(free, name, needed))
+# The name that loses most where it can't have its cheapest choice: so the losses rise soon, and papers stay small.
+# A crossed name's cheapest choice takes cells, so there is a second one: staying out, or a place.
+def name_to_split(free, crossed):
+    return max(crossed, key=lambda name: free[name][1][0] - free[name][0][0])
 
 
 def with_cheapest(places, free):
@@ -69,9 +51,9 @@ def with_cheapest(places, free):
     return more
 
 
-# Tells a paper and the best that is found, a tuple (loss, places), of what is found already and what the names that
-# are still free can do beside those set ahead. No name is split where the cheapest choices come to no less than the
-# best, or don't meet: then they are the new best themselves.
+# Tells a paper, and the best of what was found already and what the free names can do beside those set ahead:
+# a tuple (loss, places). No name is split where the cheapest choices come to no less than the best so far,
+# nor where no two of them meet: then they are the new best themselves.
 def search(free, places, lost, best):
     least_here = lost + cheapest_sum(free)
     if least_here >= best[0]:
@@ -79,7 +61,7 @@ def search(free, places, lost, best):
     crossed = crossed_names(free)
     if len(crossed) == 0:
         return (End(), (least_here, with_cheapest(places, free)))
-    name = name_to_split(free, crossed, best[0] - least_here)
+    name = name_to_split(free, crossed)
     cases = []
     for loss, taken, place in free[name]:
         found = search(narrowed(free, name, taken), with_choice(places, name, place), lost + loss, best)
@@ -111,4 +93,4 @@ def least(plan):
         loss += best[0]
         places.update(best[1])
         papers.append(paper_of(plan, part, best))
-    return ([places[point[0]] for point in plan[3]], loss, papers)
+    return ([places[name] for name in names_of(plan)], loss, papers)

@@ -19,6 +19,12 @@ def depth(paper):
     return 1 + max(depth(other) for _, other in paper.cases)
 
 
+def size(paper):
+    if isinstance(paper, End):
+        return 1
+    return 1 + sum(size(other) for _, other in paper.cases)
+
+
 def crowded_plan(chance, figures=1, points=5):
     """A plan with points that lie close together in the middle, and names that lose much where they stay out."""
     cells = chance.sample(list(itertools.product(range(2, 6), range(1, 4))), points)
@@ -227,17 +233,20 @@ class Against(Held):
 
     def test_twenty_six_points_close_together(self):
         chance = random.Random(100)
-        depths = []
+        depths, sizes = [], []
         for number in range(12):
-            side = (9, 12, 16, 20)[number % 4]
-            plan = some_plan(chance, sheet=(side, side), points=0, kept=2, side=2)
+            side = (9, 11, 14, 20)[number % 4]
             cells = chance.sample(list(itertools.product(range(side), repeat=2)), 26)
             points = []
             for letter, (x, y) in zip("abcdefghijklmnopqrstuvwxyz", cells):
-                places = tuple((way, chance.randrange(10)) for way in chance.sample(WAYS, chance.randint(2, 6)))
-                points.append((letter * chance.randint(1, 5), x, y, chance.randrange(10, 40), places))
-            depths.extend(map(depth, self.hold(plan[:3] + (tuple(points),))[2]))
+                places = tuple((way, chance.randrange(4)) for way in chance.sample(WAYS, chance.randint(4, 6)))
+                points.append((letter * chance.randint(2, 5), x, y, chance.randrange(4, 20), places))
+            papers = self.hold((side, side, (), tuple(points)))[2]
+            depths.append(max(map(depth, papers)))
+            sizes.append(sum(map(size, papers)))
         self.assertGreater(max(depths), 3)
+        # Not promised, but papers that are to be gone through are best small ones.
+        self.assertLess(max(sizes), 1000)
 
 
 class Asked(Held):
